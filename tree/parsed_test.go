@@ -1,0 +1,42 @@
+package tree_test
+
+import (
+	"testing"
+
+	"rendezvous/api"
+	"rendezvous/parse"
+	"rendezvous/text"
+	"rendezvous/tree"
+)
+
+// checkParsed prints a tree, if it is not too long, and parses it again.
+func checkParsed(t *testing.T, one api.Tree) {
+	t.Helper()
+	u, errno := tree.Print(one)
+	if errno == api.ErrLong {
+		return
+	}
+	again, _, other := parse.Parse(u)
+	if s, _ := text.Plain(u); errno != api.OK || other != api.OK || !tree.Same(again, one) {
+		t.Fatalf("%q is printed, error %d, and parsed with error %d", s, errno, other)
+	}
+}
+
+// A stub of package parse answers no nodes, not even a Program: then the reader
+// of TestP6_4_PrintedAndReadAgain has to stand for it.
+func TestP6_4_Parsed(t *testing.T) {
+	if program, _, _ := parse.Parse(nil); len(program.Nodes) == 0 {
+		t.Skip("package parse is not built")
+	}
+	for _, s := range tree.Sources() {
+		u, _, _ := text.Units([]byte(s))
+		one, at, errno := parse.Parse(u)
+		if errno != api.OK || !tree.May(one) {
+			t.Fatalf("Parse(%q) = error %d at %d, or no good tree", s, errno, at)
+		}
+		checkParsed(t, one)
+	}
+	for _, one := range tree.Trees(15, 2000) {
+		checkParsed(t, one)
+	}
+}
