@@ -7,14 +7,12 @@ import (
 	"rendezvous/num"
 )
 
-func (r *run) callOfAgents(name string, args arguments) (heap.Value, *jump) {
+func (r *Realm) callOfAgents(name string, args arguments) (heap.Value, *Jump) {
 	switch v := args.at(0); name {
 	case "start":
 		return r.startAgent(v)
 	case "broadcast":
 		return r.broadcast(v)
-	case "receiveBroadcast":
-		return r.receive(v)
 	case "report":
 		return r.report(v)
 	case "getReport":
@@ -27,19 +25,19 @@ func (r *run) callOfAgents(name string, args arguments) (heap.Value, *jump) {
 }
 
 // tell requests something whose answer tells nothing.
-func (r *run) tell(q Req) (heap.Value, *jump) {
+func (r *Realm) tell(q Req) (heap.Value, *Jump) {
 	_, j := r.ask(q)
 	return heap.Value{}, j
 }
 
-func (r *run) startAgent(source heap.Value) (heap.Value, *jump) {
+func (r *Realm) startAgent(source heap.Value) (heap.Value, *Jump) {
 	if source.Kind != heap.Text {
 		return r.fail(conv.Exit)
 	}
 	return r.tell(Req{Kind: Start, Text: source.S})
 }
 
-func (r *run) broadcast(buffer heap.Value) (heap.Value, *jump) {
+func (r *Realm) broadcast(buffer heap.Value) (heap.Value, *Jump) {
 	c := r.head(buffer)
 	if c.Kind != heap.SharedBuffer {
 		return r.fail(conv.Type)
@@ -48,21 +46,25 @@ func (r *run) broadcast(buffer heap.Value) (heap.Value, *jump) {
 }
 
 // receive calls a function with the buffer that another agent has broadcast.
-func (r *run) receive(f heap.Value) (heap.Value, *jump) {
+func (r *Realm) receive(f heap.Value) (*Body, *Jump) {
 	c := r.head(f)
 	if c.Kind != heap.Function {
-		return r.fail(conv.Type)
+		return nil, r.raise(conv.Type)
 	}
 	a, j := r.ask(Req{Kind: Receive})
 	if j != nil {
-		return heap.Value{}, j
+		return nil, j
 	}
 	buffer, j := r.newShared(a.Block, sizeOf(a.Len))
 	if j != nil {
-		return heap.Value{}, j
+		return nil, j
 	}
-	_, j = r.callFunction(c, heap.Value{}, arguments{buffer})
-	return heap.Value{}, j
+	b, j := r.bodyOf(c, heap.Value{}, arguments{buffer})
+	if j != nil {
+		return nil, j
+	}
+	b.hears = true
+	return b, nil
 }
 
 // sizeOf returns the size that an answer tells; what can be none counts as 0.
@@ -73,7 +75,7 @@ func sizeOf(n int) int {
 	return n
 }
 
-func (r *run) report(v heap.Value) (heap.Value, *jump) {
+func (r *Realm) report(v heap.Value) (heap.Value, *Jump) {
 	u, signal := conv.Text(v)
 	if signal != conv.Ok {
 		return r.fail(signal)
@@ -81,7 +83,7 @@ func (r *run) report(v heap.Value) (heap.Value, *jump) {
 	return r.tell(Req{Kind: Report, Text: u})
 }
 
-func (r *run) getReport() (heap.Value, *jump) {
+func (r *Realm) getReport() (heap.Value, *Jump) {
 	a, j := r.ask(Req{Kind: GetReport})
 	if a.Code != 0 {
 		return heap.Value{Kind: heap.Null}, j
@@ -89,7 +91,7 @@ func (r *run) getReport() (heap.Value, *jump) {
 	return conv.Str(a.Text), j
 }
 
-func (r *run) sleep(time heap.Value) (heap.Value, *jump) {
+func (r *Realm) sleep(time heap.Value) (heap.Value, *Jump) {
 	n, signal := conv.Number(time)
 	if signal != conv.Ok {
 		return r.fail(signal)

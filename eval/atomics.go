@@ -7,7 +7,7 @@ import (
 	"rendezvous/num"
 )
 
-func (r *run) callOfAtomics(name string, args arguments) (heap.Value, *jump) {
+func (r *Realm) callOfAtomics(name string, args arguments) (heap.Value, *Jump) {
 	switch name {
 	case "isLockFree":
 		return r.isLockFree(args.at(0))
@@ -32,7 +32,7 @@ func (r *run) callOfAtomics(name string, args arguments) (heap.Value, *jump) {
 }
 
 // spotAt returns where the element of a typed array with this index lies.
-func (r *run) spotAt(c heap.Cell, index heap.Value) (spot, *jump) {
+func (r *Realm) spotAt(c heap.Cell, index heap.Value) (spot, *Jump) {
 	i, signal := conv.Index(index)
 	switch {
 	case signal != conv.Ok:
@@ -44,7 +44,7 @@ func (r *run) spotAt(c heap.Cell, index heap.Value) (spot, *jump) {
 }
 
 // modify does what Atomics does with an element and values.
-func (r *run) modify(name string, s spot, args arguments) (heap.Value, *jump) {
+func (r *Realm) modify(name string, s spot, args arguments) (heap.Value, *Jump) {
 	v, signal := converted(s.kind, args.at(2))
 	if signal != conv.Ok {
 		return r.fail(signal)
@@ -60,7 +60,7 @@ func (r *run) modify(name string, s spot, args arguments) (heap.Value, *jump) {
 	return element(s.kind, old), j
 }
 
-func (r *run) compareExchange(s spot, want uint64, v heap.Value) (heap.Value, *jump) {
+func (r *Realm) compareExchange(s spot, want uint64, v heap.Value) (heap.Value, *Jump) {
 	w, signal := wordOf(s.kind, v)
 	if signal != conv.Ok {
 		return r.fail(signal)
@@ -86,7 +86,7 @@ func operation(name string) int {
 	return 6
 }
 
-func (r *run) isLockFree(size heap.Value) (heap.Value, *jump) {
+func (r *Realm) isLockFree(size heap.Value) (heap.Value, *Jump) {
 	n, signal := conv.Number(size)
 	if signal != conv.Ok {
 		return r.fail(signal)
@@ -99,12 +99,12 @@ func (r *run) isLockFree(size heap.Value) (heap.Value, *jump) {
 }
 
 // waitable returns the cell of a typed array whose elements agents can wait at.
-func (r *run) waitable(v heap.Value) (heap.Cell, bool) {
+func (r *Realm) waitable(v heap.Value) (heap.Cell, bool) {
 	c := r.head(v)
 	return c, c.Kind == heap.TypedArray && (c.Elem == api.EInt32 || c.Elem == api.EBigInt64)
 }
 
-func (r *run) wait(args arguments) (heap.Value, *jump) {
+func (r *Realm) wait(args arguments) (heap.Value, *Jump) {
 	c, ok := r.waitable(args.at(0))
 	if !ok || r.heads[c.Buf].Kind != heap.SharedBuffer {
 		return r.fail(conv.Type)
@@ -156,7 +156,7 @@ func outcome(code int) string {
 	return "timed-out"
 }
 
-func (r *run) notify(args arguments) (heap.Value, *jump) {
+func (r *Realm) notify(args arguments) (heap.Value, *Jump) {
 	c, ok := r.waitable(args.at(0))
 	if !ok {
 		return r.fail(conv.Type)

@@ -10,7 +10,7 @@ import (
 )
 
 // constructBuffer makes a buffer that is not shared.
-func (r *run) constructBuffer(size heap.Value) (heap.Value, *jump) {
+func (r *Realm) constructBuffer(size heap.Value) (heap.Value, *Jump) {
 	n, signal := conv.Index(size)
 	if signal != conv.Ok {
 		return r.fail(signal)
@@ -18,14 +18,14 @@ func (r *run) constructBuffer(size heap.Value) (heap.Value, *jump) {
 	return r.newBuffer(n)
 }
 
-func (r *run) newBuffer(size int) (heap.Value, *jump) {
+func (r *Realm) newBuffer(size int) (heap.Value, *Jump) {
 	if size > api.MaxText {
 		return r.fail(conv.Range)
 	}
 	return r.make(heap.Cell{Kind: heap.Buffer, Len: size, Bytes: make([]byte, size)})
 }
 
-func (r *run) constructShared(size, options heap.Value) (heap.Value, *jump) {
+func (r *Realm) constructShared(size, options heap.Value) (heap.Value, *Jump) {
 	n, signal := conv.Index(size)
 	switch {
 	case signal != conv.Ok:
@@ -43,18 +43,18 @@ func (r *run) constructShared(size, options heap.Value) (heap.Value, *jump) {
 	return r.newShared(a.Block, n)
 }
 
-func (r *run) newShared(block, size int) (heap.Value, *jump) {
+func (r *Realm) newShared(block, size int) (heap.Value, *Jump) {
 	return r.make(heap.Cell{Kind: heap.SharedBuffer, Buf: block, Len: size})
 }
 
 // isBuffer reports whether v is a buffer, shared or not.
-func (r *run) isBuffer(v heap.Value) bool {
+func (r *Realm) isBuffer(v heap.Value) bool {
 	kind := r.head(v).Kind
 	return kind == heap.Buffer || kind == heap.SharedBuffer
 }
 
 // constructTyped makes a typed array, of a buffer or of so many elements.
-func (r *run) constructTyped(kind int, args arguments) (heap.Value, *jump) {
+func (r *Realm) constructTyped(kind int, args arguments) (heap.Value, *Jump) {
 	size := elem.Size(kind)
 	a := args.at(0)
 	if r.isBuffer(a) {
@@ -73,7 +73,7 @@ func (r *run) constructTyped(kind int, args arguments) (heap.Value, *jump) {
 }
 
 // constructTypedOf makes c a typed array of its buffer.
-func (r *run) constructTypedOf(c heap.Cell, size int, args arguments) (heap.Value, *jump) {
+func (r *Realm) constructTypedOf(c heap.Cell, size int, args arguments) (heap.Value, *Jump) {
 	from, signal := conv.Index(args.at(1))
 	switch {
 	case signal != conv.Ok:
@@ -85,7 +85,7 @@ func (r *run) constructTypedOf(c heap.Cell, size int, args arguments) (heap.Valu
 	return r.constructPart(c, size, args.at(2))
 }
 
-func (r *run) constructView(args arguments) (heap.Value, *jump) {
+func (r *Realm) constructView(args arguments) (heap.Value, *Jump) {
 	if !r.isBuffer(args.at(0)) {
 		return r.fail(conv.Type)
 	}
@@ -101,7 +101,7 @@ func (r *run) constructView(args arguments) (heap.Value, *jump) {
 
 // constructPart makes c as long as count says, in units of size bytes of its
 // buffer; without a count, up to the end.
-func (r *run) constructPart(c heap.Cell, size int, count heap.Value) (heap.Value, *jump) {
+func (r *Realm) constructPart(c heap.Cell, size int, count heap.Value) (heap.Value, *Jump) {
 	all := r.heads[c.Buf].Len
 	room := all - c.From
 	if count.Kind == heap.Undefined {
@@ -123,7 +123,7 @@ func (r *run) constructPart(c heap.Cell, size int, count heap.Value) (heap.Value
 }
 
 // callOfViews reads or sets an element of a view.
-func (r *run) callOfViews(x intrinsic, this heap.Value, args arguments) (heap.Value, *jump) {
+func (r *Realm) callOfViews(x intrinsic, this heap.Value, args arguments) (heap.Value, *Jump) {
 	c := r.head(this)
 	if c.Kind != heap.View {
 		return r.fail(conv.Type)
@@ -138,7 +138,7 @@ func (r *run) callOfViews(x intrinsic, this heap.Value, args arguments) (heap.Va
 	return r.setOfView(c, x.kind, i, args.at(1), conv.Bool(args.at(2)))
 }
 
-func (r *run) getOfView(c heap.Cell, kind, i int, little bool) (heap.Value, *jump) {
+func (r *Realm) getOfView(c heap.Cell, kind, i int, little bool) (heap.Value, *Jump) {
 	if !isInView(c, kind, i) {
 		return r.fail(conv.Range)
 	}
@@ -149,7 +149,7 @@ func (r *run) getOfView(c heap.Cell, kind, i int, little bool) (heap.Value, *jum
 	return element(kind, w), j
 }
 
-func (r *run) setOfView(c heap.Cell, kind, i int, v heap.Value, little bool) (heap.Value, *jump) {
+func (r *Realm) setOfView(c heap.Cell, kind, i int, v heap.Value, little bool) (heap.Value, *Jump) {
 	w, signal := wordOf(kind, v)
 	switch {
 	case signal != conv.Ok:

@@ -30,7 +30,7 @@ func spotOf(c heap.Cell, i int) spot {
 }
 
 // request returns a request for an element, if its buffer is shared.
-func (r *run) request(kind int, s spot) (Req, bool) {
+func (r *Realm) request(kind int, s spot) (Req, bool) {
 	c := r.heads[s.buf]
 	if c.Kind != heap.SharedBuffer {
 		return Req{}, false
@@ -39,7 +39,7 @@ func (r *run) request(kind int, s spot) (Req, bool) {
 }
 
 // load returns the word of an element.
-func (r *run) load(s spot, how access) (uint64, *jump) {
+func (r *Realm) load(s spot, how access) (uint64, *Jump) {
 	q, shared := r.request(Load, s)
 	if !shared {
 		return r.word(s), nil
@@ -50,18 +50,18 @@ func (r *run) load(s spot, how access) (uint64, *jump) {
 }
 
 // word returns the word of an element of a buffer that is not shared.
-func (r *run) word(s spot) uint64 {
+func (r *Realm) word(s spot) uint64 {
 	c, _ := r.heap.Cell(s.buf)
 	w, _ := elem.Word(s.kind, c.Bytes[s.at:s.at+elem.Size(s.kind)])
 	return w
 }
 
 // write gives such an element a word.
-func (r *run) write(s spot, w uint64) {
+func (r *Realm) write(s spot, w uint64) {
 	r.heap.Write(s.buf, s.at, elem.Bytes(s.kind, w))
 }
 
-func (r *run) store(s spot, how access, w uint64) *jump {
+func (r *Realm) store(s spot, how access, w uint64) *Jump {
 	q, shared := r.request(Store, s)
 	if !shared {
 		r.write(s, w)
@@ -73,7 +73,7 @@ func (r *run) store(s spot, how access, w uint64) *jump {
 }
 
 // change changes an element by an operation of elem.Change, and returns the old word.
-func (r *run) change(s spot, op int, by uint64) (uint64, *jump) {
+func (r *Realm) change(s spot, op int, by uint64) (uint64, *Jump) {
 	q, shared := r.request(Change, s)
 	if !shared {
 		old := r.word(s)
@@ -87,7 +87,7 @@ func (r *run) change(s spot, op int, by uint64) (uint64, *jump) {
 }
 
 // swap gives an element a word if its old one is want, and returns the old one.
-func (r *run) swap(s spot, want, w uint64) (uint64, *jump) {
+func (r *Realm) swap(s spot, want, w uint64) (uint64, *Jump) {
 	q, shared := r.request(Swap, s)
 	if !shared {
 		old := r.word(s)
@@ -102,7 +102,7 @@ func (r *run) swap(s spot, want, w uint64) (uint64, *jump) {
 }
 
 // getElement reads the element i of a typed array.
-func (r *run) getElement(c heap.Cell, i int) (heap.Value, *jump) {
+func (r *Realm) getElement(c heap.Cell, i int) (heap.Value, *Jump) {
 	if i >= c.Len {
 		return heap.Value{}, nil
 	}
@@ -111,7 +111,7 @@ func (r *run) getElement(c heap.Cell, i int) (heap.Value, *jump) {
 }
 
 // setElement gives the element i of a typed array a value, if there is one.
-func (r *run) setElement(c heap.Cell, i int, v heap.Value) *jump {
+func (r *Realm) setElement(c heap.Cell, i int, v heap.Value) *Jump {
 	w, signal := wordOf(c.Elem, v)
 	if signal != conv.Ok || i >= c.Len {
 		return r.raise(signal)

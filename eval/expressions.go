@@ -1,34 +1,26 @@
 package eval
 
 import (
+	"strings"
+
 	"rendezvous/api"
 	"rendezvous/conv"
 	"rendezvous/heap"
-	"rendezvous/oper"
-	"rendezvous/text"
 	"rendezvous/tree"
 )
 
 // expression executes an expression.
-func (r *run) expression(n int, in place) (heap.Value, *jump) {
-	if j := r.begin(); j != nil {
+func (r *run) expression(n int, in Place) (heap.Value, *Jump) {
+	if j := r.Begin(); j != nil {
 		return heap.Value{}, j
 	}
-	defer r.done()
+	defer r.Done()
 	node := r.nodes[n]
 	switch node.Kind {
-	case tree.Name:
-		return r.readName(node.Name, in)
-	case tree.This:
-		return r.this(in)
 	case tree.Array:
 		return r.arrayLiteral(node, in)
 	case tree.Object:
 		return r.objectLiteral(node, in)
-	case tree.Function:
-		return r.functionExpression(n, in)
-	case tree.Arrow:
-		return r.arrow(n, in)
 	case tree.Unary:
 		return r.unary(node, in)
 	case tree.Pre, tree.Post:
@@ -49,33 +41,24 @@ func (r *run) expression(n int, in place) (heap.Value, *jump) {
 		v, _, j := r.property(node, in)
 		return v, j
 	}
-	return literal(node), nil
+	return r.Leaf(n, in)
 }
 
-// literal returns the value that a node alone tells.
-func literal(node api.Node) heap.Value {
-	switch node.Kind {
-	case tree.Number:
-		return conv.Num(node.N)
-	case tree.Big:
-		return bigInt(node.B)
-	case tree.String:
-		return conv.Str(node.Str)
-	case tree.Null:
-		return heap.Value{Kind: heap.Null}
+// list executes expressions in their order.
+func (r *run) list(kids []int, in Place) ([]heap.Value, *Jump) {
+	values := []heap.Value{}
+	for _, n := range kids {
+		v, j := r.expression(n, in)
+		if j != nil {
+			return nil, j
+		}
+		values = append(values, v)
 	}
-	return conv.Truth(node.Kind == tree.True)
+	return values, nil
 }
 
-func (r *run) this(in place) (heap.Value, *jump) {
-	if !in.hasThis {
-		return r.fail(conv.Exit)
-	}
-	return in.this, nil
-}
-
-func (r *run) arrayLiteral(node api.Node, in place) (heap.Value, *jump) {
-	array, j := r.newArray()
+func (r *run) arrayLiteral(node api.Node, in Place) (heap.Value, *Jump) {
+	array, j := r.NewArray()
 	if j != nil {
 		return heap.Value{}, j
 	}
@@ -84,13 +67,13 @@ func (r *run) arrayLiteral(node api.Node, in place) (heap.Value, *jump) {
 		if j != nil {
 			return heap.Value{}, j
 		}
-		r.push(array, v)
+		r.Push(array, v)
 	}
 	return array, nil
 }
 
-func (r *run) objectLiteral(node api.Node, in place) (heap.Value, *jump) {
-	object, j := r.newPlain(heap.Root)
+func (r *run) objectLiteral(node api.Node, in Place) (heap.Value, *Jump) {
+	object, j := r.NewObject()
 	if j != nil {
 		return heap.Value{}, j
 	}
@@ -100,117 +83,41 @@ func (r *run) objectLiteral(node api.Node, in place) (heap.Value, *jump) {
 		if j != nil {
 			return heap.Value{}, j
 		}
-		if j := r.setOfPlain(object, prop.Str, v); j != nil {
+		if j := r.Put(object, prop.Str, v); j != nil {
 			return heap.Value{}, j
 		}
 	}
 	return object, nil
 }
 
-func (r *run) unary(node api.Node, in place) (heap.Value, *jump) {
-	if node.Name == "typeof" {
-		return r.typeOf(node.Kids[0], in)
+func (r *run) unary(node api.Node, in Place) (heap.Value, *Jump) {
+	if operand := r.nodes[node.Kids[0]]; node.Name == "typeof" && operand.Kind == tree.Name {
+		return r.TypeOfName(operand.Name, in)
 	}
 	v, j := r.expression(node.Kids[0], in)
 	if j != nil {
 		return heap.Value{}, j
 	}
-	v, signal := oper.Unary(node.Name, v)
-	return v, r.raise(signal)
+	return r.Unary(node.Name, v)
 }
 
-func (r *run) typeOf(n int, in place) (heap.Value, *jump) {
-	v, j := r.typeOfOperand(n, in)
+func (r *run) binary(node api.Node, in Place) (heap.Value, *Jump) {
+	values, j := r.list(node.Kids, in)
 	if j != nil {
 		return heap.Value{}, j
 	}
-	return ascii(r.kindName(v)), nil
+	return r.Binary(node.Name, values[0], values[1])
 }
 
-// typeOfOperand returns the value of an expression, and undefined for a Name that
-// there is not.
-func (r *run) typeOfOperand(n int, in place) (heap.Value, *jump) {
-	node := r.nodes[n]
-	if node.Kind != tree.Name {
-		return r.expression(n, in)
-	}
-	if j := r.begin(); j != nil {
-		return heap.Value{}, j
-	}
-	defer r.done()
-	v, _, j := r.lookUp(node.Name, in)
-	return v, j
-}
-
-// kindName returns what typeof tells of a value.
-func (r *run) kindName(v heap.Value) string {
-	switch v.Kind {
-	case heap.Undefined:
-		return "undefined"
-	case heap.Boolean:
-		return "boolean"
-	case heap.Number:
-		return "number"
-	case heap.BigInt:
-		return "bigint"
-	case heap.Text:
-		return "string"
-	}
-	if r.isCallable(v) {
-		return "function"
-	}
-	return "object"
-}
-
-// pair executes two expressions.
-func (r *run) pair(kids []int, in place) (a, b heap.Value, j *jump) {
-	if a, j = r.expression(kids[0], in); j != nil {
-		return heap.Value{}, heap.Value{}, j
-	}
-	b, j = r.expression(kids[1], in)
-	return a, b, j
-}
-
-func (r *run) binary(node api.Node, in place) (heap.Value, *jump) {
-	a, b, j := r.pair(node.Kids, in)
-	switch {
-	case j != nil:
-		return heap.Value{}, j
-	case node.Name == "in":
-		return r.has(a, b)
-	}
-	return r.operate(node.Name, a, b)
-}
-
-// operate returns what a binary operator makes of two values.
-func (r *run) operate(op string, a, b heap.Value) (heap.Value, *jump) {
-	v, signal := oper.Binary(op, a, b)
-	return v, r.raise(signal)
-}
-
-func (r *run) logic(node api.Node, in place) (heap.Value, *jump) {
+func (r *run) logic(node api.Node, in Place) (heap.Value, *Jump) {
 	v, j := r.expression(node.Kids[0], in)
-	if j != nil || decides(node.Name, v) {
+	if j != nil || Decides(node.Name, v) {
 		return v, j
 	}
 	return r.expression(node.Kids[1], in)
 }
 
-// decides reports whether a value is the result of a logic operator, whatever
-// stands behind it.
-func decides(op string, v heap.Value) bool {
-	switch op {
-	case "&&":
-		return !conv.Bool(v)
-	case "||":
-		return conv.Bool(v)
-	}
-	return !isNothing(v)
-}
-
-func isNothing(v heap.Value) bool { return v.Kind == heap.Undefined || v.Kind == heap.Null }
-
-func (r *run) cond(node api.Node, in place) (heap.Value, *jump) {
+func (r *run) cond(node api.Node, in Place) (heap.Value, *Jump) {
 	holds, j := r.holds(node.Kids[0], in)
 	switch {
 	case j != nil:
@@ -221,9 +128,78 @@ func (r *run) cond(node api.Node, in place) (heap.Value, *jump) {
 	return r.expression(node.Kids[2], in)
 }
 
-// spelled returns a key as a string; the empty one, which is no name, if a unit
-// of it is not ASCII.
-func spelled(key []uint16) string {
-	s, _ := text.Plain(key)
-	return s
+// holds reports whether the value of an expression counts as true.
+func (r *run) holds(n int, in Place) (bool, *Jump) {
+	v, j := r.expression(n, in)
+	return j == nil && conv.Bool(v), j
+}
+
+// parts executes the parts of a target.
+func (r *run) parts(node api.Node, in Place) (Target, *Jump) {
+	values, j := r.list(node.Kids, in)
+	if j != nil {
+		return Target{}, j
+	}
+	return TargetOf(node, values), nil
+}
+
+// property reads the property that a Dot or an Index means, and returns what it
+// was read from, too.
+func (r *run) property(node api.Node, in Place) (v, base heap.Value, j *Jump) {
+	t, j := r.parts(node, in)
+	if j != nil {
+		return heap.Value{}, heap.Value{}, j
+	}
+	v, j = r.Read(t, in)
+	return v, t.base, j
+}
+
+func (r *run) assign(node api.Node, in Place) (heap.Value, *Jump) {
+	t, j := r.parts(r.nodes[node.Kids[0]], in)
+	if j != nil {
+		return heap.Value{}, j
+	}
+	v, j := r.assigned(t, node, in)
+	if j != nil {
+		return heap.Value{}, j
+	}
+	return v, r.Write(t, v, in)
+}
+
+// assigned returns the value that an Assign sets its target to.
+func (r *run) assigned(t Target, node api.Node, in Place) (heap.Value, *Jump) {
+	op := strings.TrimSuffix(node.Name, "=")
+	if op == "" {
+		return r.expression(node.Kids[1], in)
+	}
+	old, j := r.Read(t, in)
+	if j != nil {
+		return heap.Value{}, j
+	}
+	by, j := r.expression(node.Kids[1], in)
+	if j != nil {
+		return heap.Value{}, j
+	}
+	return r.Binary(op, old, by)
+}
+
+// step executes a Pre or a Post.
+func (r *run) step(node api.Node, in Place) (heap.Value, *Jump) {
+	t, j := r.parts(r.nodes[node.Kids[0]], in)
+	if j != nil {
+		return heap.Value{}, j
+	}
+	v, j := r.Read(t, in)
+	if j != nil {
+		return heap.Value{}, j
+	}
+	before, after, j := r.Step(node.Name, v)
+	if j != nil {
+		return heap.Value{}, j
+	}
+	j = r.Write(t, after, in)
+	if node.Kind == tree.Post {
+		return before, j
+	}
+	return after, j
 }

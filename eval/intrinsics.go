@@ -29,6 +29,9 @@ const (
 	ofAgents = "agent"
 )
 
+// hearing is the name of the intrinsic that calls a function.
+const hearing = "receiveBroadcast"
+
 const errorNames = "Error TypeError RangeError ReferenceError SyntaxError"
 
 // intrinsic is an object that a name of the outermost scope means, or that is a
@@ -58,7 +61,7 @@ func intrinsics() []intrinsic {
 		held(ofArrays, "push pop"),
 		held("Atomics", "load store add and or sub xor exchange compareExchange isLockFree wait notify"),
 		held(harness, ofAgents),
-		held(ofAgents, "start broadcast receiveBroadcast report getReport sleep monotonicNow"),
+		held(ofAgents, "start broadcast "+hearing+" report getReport sleep monotonicNow"),
 	)
 	for kind := range elem.Kinds() {
 		name := nameOf(kind)
@@ -98,7 +101,7 @@ func nameOf(kind int) string {
 }
 
 // intrinsic returns the member of a holder with this name, if it has one.
-func (r *run) intrinsic(holder, name string) (heap.Value, bool) {
+func (r *Realm) intrinsic(holder, name string) (heap.Value, bool) {
 	for i, x := range r.intrinsics {
 		if x.holder == holder && x.name == name {
 			return heap.Value{Kind: heap.Object, Ref: firstIntrinsic + i}, true
@@ -108,7 +111,7 @@ func (r *run) intrinsic(holder, name string) (heap.Value, bool) {
 }
 
 // global returns the value of a name of the outermost scope, if there is one.
-func (r *run) global(name string) (heap.Value, bool) {
+func (r *Realm) global(name string) (heap.Value, bool) {
 	switch name {
 	case "undefined":
 		return heap.Value{}, true
@@ -134,7 +137,7 @@ func isUnsupported(name string) bool {
 }
 
 // callIntrinsic calls an intrinsic that can be called.
-func (r *run) callIntrinsic(x intrinsic, this heap.Value, args arguments) (heap.Value, *jump) {
+func (r *Realm) callIntrinsic(x intrinsic, this heap.Value, args arguments) (heap.Value, *Jump) {
 	switch x.holder {
 	case "Object":
 		return r.callOfObject(x.name, args)
@@ -153,7 +156,7 @@ func (r *run) callIntrinsic(x intrinsic, this heap.Value, args arguments) (heap.
 }
 
 // callGlobal calls an intrinsic that a name of the outermost scope means.
-func (r *run) callGlobal(name string, args arguments) (heap.Value, *jump) {
+func (r *Realm) callGlobal(name string, args arguments) (heap.Value, *Jump) {
 	if isErrorName(name) {
 		return r.toError(name, args.at(0))
 	}
@@ -173,7 +176,7 @@ func (r *run) callGlobal(name string, args arguments) (heap.Value, *jump) {
 }
 
 // constructIntrinsic constructs an object by an intrinsic.
-func (r *run) constructIntrinsic(x intrinsic, args arguments) (heap.Value, *jump) {
+func (r *Realm) constructIntrinsic(x intrinsic, args arguments) (heap.Value, *Jump) {
 	switch {
 	case x.holder != global:
 		return r.fail(conv.Type)

@@ -10,41 +10,41 @@ import (
 
 // Kinds of jumps.
 const (
-	breaks = 1 + iota
-	continues
-	returns
-	throws
-	stops
+	Breaks    = 1
+	Continues = 2
+	Returns   = 3
+	Throws    = 4
+	Stops     = 5
 )
 
-// jump is the way in which a node ends that does not end normally: a break or a
+// Jump is the way in which a node ends that does not end normally: a break or a
 // continue, with a name or without one; a return or a throw, with a value; or a
 // stop, which nothing holds up. A normal end is nil.
-type jump struct {
-	kind int
-	name string
-	v    heap.Value
+type Jump struct {
+	Kind int
+	Name string
+	V    heap.Value
+	req  Req // of a stop
+	end  End
 }
 
-func (j *jump) is(kind int) bool { return j != nil && j.kind == kind }
+// Is reports whether j is a jump of this kind.
+func (j *Jump) Is(kind int) bool { return j != nil && j.Kind == kind }
 
-// isBreak reports whether j is a break with this name, or without any.
-func (j *jump) isBreak(name string) bool { return j.is(breaks) && j.name == name }
+// IsBreak reports whether j is a break with this name, or without any.
+func (j *Jump) IsBreak(name string) bool { return j.Is(Breaks) && j.Name == name }
 
-// goesOn reports whether a loop with these labels continues after a statement
+// GoesOn reports whether a loop with these labels continues after a statement
 // that has ended so.
-func (j *jump) goesOn(labels []string) bool {
-	return j == nil || j.kind == continues && (j.name == "" || slices.Contains(labels, j.name))
+func (j *Jump) GoesOn(labels []string) bool {
+	return j == nil || j.Kind == Continues && (j.Name == "" || slices.Contains(labels, j.Name))
 }
 
-// stop stops the run.
-func (r *run) stop(kind int) *jump {
-	r.end = End{Kind: kind}
-	return &jump{kind: stops}
-}
+// stop returns the stop of a program that ends in this way.
+func stop(kind int) *Jump { return &Jump{Kind: Stops, end: End{Kind: kind}} }
 
 // raise returns what comes of a signal: nothing, a throw, or a stop.
-func (r *run) raise(signal int) *jump {
+func (r *Realm) raise(signal int) *Jump {
 	switch signal {
 	case conv.Type:
 		return r.throw("TypeError")
@@ -55,27 +55,27 @@ func (r *run) raise(signal int) *jump {
 	case conv.Syntax:
 		return r.throw("SyntaxError")
 	case conv.Exit:
-		return r.stop(Exited)
+		return stop(Exited)
 	}
 	return nil
 }
 
 // fail is raise for those that would return a value.
-func (r *run) fail(signal int) (heap.Value, *jump) {
+func (r *Realm) fail(signal int) (heap.Value, *Jump) {
 	return heap.Value{}, r.raise(signal)
 }
 
 // throw throws a new error with this name, and without a message.
-func (r *run) throw(name string) *jump {
+func (r *Realm) throw(name string) *Jump {
 	v, j := r.newError(name, nil)
 	if j != nil {
 		return j
 	}
-	return &jump{kind: throws, v: v}
+	return &Jump{Kind: Throws, V: v}
 }
 
 // newError makes an error.
-func (r *run) newError(name string, message []uint16) (heap.Value, *jump) {
+func (r *Realm) newError(name string, message []uint16) (heap.Value, *Jump) {
 	return r.make(heap.Cell{Kind: heap.Error, Name: name, This: conv.Str(message)})
 }
 

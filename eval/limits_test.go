@@ -105,7 +105,9 @@ func TestP12_1_Limits(t *testing.T) {
 		}
 		check(c.Heap, c.Depth, c.Fuel, want)
 		check(c.Heap-1, c.Depth, c.Fuel, "heap")
-		check(c.Heap-1, api.MaxDepth, api.MaxFuel, "heap")
+		for heap := range c.Heap {
+			check(heap, api.MaxDepth, api.MaxFuel, "heap")
+		}
 		if c.Depth > 1 {
 			check(c.Heap, c.Depth-1, c.Fuel, "depth")
 			check(api.MaxHeap, c.Depth-1, api.MaxFuel, "depth")

@@ -7,15 +7,15 @@ import (
 	"rendezvous/tree"
 )
 
-func (r *run) label(node api.Node, in place, labels []string) *jump {
+func (r *run) label(node api.Node, in Place, labels []string) *Jump {
 	j := r.statement(node.Kids[0], in, append(slices.Clone(labels), node.Name))
-	if j.isBreak(node.Name) {
+	if j.IsBreak(node.Name) {
 		return nil
 	}
 	return j
 }
 
-func (r *run) while(node api.Node, in place, labels []string) *jump {
+func (r *run) while(node api.Node, in Place, labels []string) *Jump {
 turns:
 	for {
 		holds, j := r.holds(node.Kids[0], in)
@@ -24,9 +24,9 @@ turns:
 		}
 		j = r.statement(node.Kids[1], in, nil)
 		switch {
-		case j.goesOn(labels):
+		case j.GoesOn(labels):
 			continue turns
-		case j.isBreak(""):
+		case j.IsBreak(""):
 			break turns
 		}
 		return j
@@ -35,7 +35,7 @@ turns:
 }
 
 // loop executes a For.
-func (r *run) loop(node api.Node, in place, labels []string) *jump {
+func (r *run) loop(node api.Node, in Place, labels []string) *Jump {
 	first, test, step, statement := node.Kids[0], node.Kids[1], node.Kids[2], node.Kids[3]
 	in, j := r.beginLoop(first, in)
 	if j != nil {
@@ -49,12 +49,12 @@ turns:
 		}
 		j = r.statement(statement, in, nil)
 		switch {
-		case j.isBreak(""):
+		case j.IsBreak(""):
 			break turns
-		case !j.goesOn(labels):
+		case !j.GoesOn(labels):
 			return j
 		}
-		if in, j = r.nextTurn(first, in); j != nil {
+		if in, j = r.Turn(first, in); j != nil {
 			return j
 		}
 		if j = r.part(step, in); j != nil {
@@ -66,31 +66,22 @@ turns:
 
 // beginLoop executes the first child of a For, in the scope of the For, if that
 // has one, and returns where the first turn is executed.
-func (r *run) beginLoop(first int, in place) (place, *jump) {
+func (r *run) beginLoop(first int, in Place) (Place, *Jump) {
 	if !r.declares([]int{first}) {
 		return in, r.part(first, in)
 	}
-	in, j := r.enter([]int{first}, in)
+	in, j := r.Enter([]int{first}, in)
 	if j != nil {
 		return in, j
 	}
 	if j := r.statement(first, in, nil); j != nil {
 		return in, j
 	}
-	return r.nextTurn(first, in)
-}
-
-// nextTurn returns where the next turn of a For is executed: with a Let, that is
-// a new scope.
-func (r *run) nextTurn(first int, in place) (place, *jump) {
-	if r.nodes[first].Kind != tree.Let {
-		return in, nil
-	}
-	return r.turn(in)
+	return r.Turn(first, in)
 }
 
 // goesRound reports whether a For has another turn.
-func (r *run) goesRound(test int, in place) (bool, *jump) {
+func (r *run) goesRound(test int, in Place) (bool, *Jump) {
 	if r.nodes[test].Kind == tree.Nothing {
 		return true, nil
 	}
@@ -98,7 +89,7 @@ func (r *run) goesRound(test int, in place) (bool, *jump) {
 }
 
 // part executes a child of a For that is an expression or Nothing.
-func (r *run) part(n int, in place) *jump {
+func (r *run) part(n int, in Place) *Jump {
 	if r.nodes[n].Kind == tree.Nothing {
 		return nil
 	}

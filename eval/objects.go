@@ -11,17 +11,21 @@ import (
 	"rendezvous/text"
 )
 
-func (r *run) newArray() (heap.Value, *jump) { return r.make(heap.Cell{Kind: heap.Array}) }
+// NewArray makes an array without elements.
+func (r *Realm) NewArray() (heap.Value, *Jump) { return r.make(heap.Cell{Kind: heap.Array}) }
 
-// push adds an element at the end of an array.
-func (r *run) push(array, v heap.Value) {
+// NewObject makes an object without properties.
+func (r *Realm) NewObject() (heap.Value, *Jump) { return r.newPlain(heap.Root) }
+
+// Push adds an element at the end of an array.
+func (r *Realm) Push(array, v heap.Value) {
 	c := &r.heads[array.Ref]
 	r.heap.Put(array.Ref, keyOf(c.Len), v)
 	c.Len++
 }
 
 // pop removes the last element of an array, and returns it; undefined if there is none.
-func (r *run) pop(array heap.Value) heap.Value {
+func (r *Realm) pop(array heap.Value) heap.Value {
 	v, ok := r.heap.Drop(array.Ref)
 	if ok {
 		r.heads[array.Ref].Len--
@@ -32,7 +36,7 @@ func (r *run) pop(array heap.Value) heap.Value {
 // keyOf returns the key of an index.
 func keyOf(i int) []uint16 { return text.Ascii(strconv.Itoa(i)) }
 
-func (r *run) callOfArrays(name string, this heap.Value, args arguments) (heap.Value, *jump) {
+func (r *Realm) callOfArrays(name string, this heap.Value, args arguments) (heap.Value, *Jump) {
 	if r.head(this).Kind != heap.Array {
 		return r.fail(conv.Exit)
 	}
@@ -40,36 +44,36 @@ func (r *run) callOfArrays(name string, this heap.Value, args arguments) (heap.V
 		return r.pop(this), nil
 	}
 	for _, v := range args {
-		r.push(this, v)
+		r.Push(this, v)
 	}
 	return whole(r.head(this).Len), nil
 }
 
-func (r *run) callOfObject(name string, args arguments) (heap.Value, *jump) {
+func (r *Realm) callOfObject(name string, args arguments) (heap.Value, *Jump) {
 	if name == "keys" {
 		return r.keys(args.at(0))
 	}
 	return r.create(args.at(0), args.at(1))
 }
 
-func (r *run) keys(object heap.Value) (heap.Value, *jump) {
+func (r *Realm) keys(object heap.Value) (heap.Value, *Jump) {
 	switch c := r.head(object); {
 	case isNothing(object):
 		return r.fail(conv.Type)
 	case c.Kind != heap.Plain && c.Kind != heap.Array:
 		return r.fail(conv.Exit)
 	}
-	array, j := r.newArray()
+	array, j := r.NewArray()
 	if j != nil {
 		return heap.Value{}, j
 	}
 	for _, key := range r.heap.Keys(object.Ref) {
-		r.push(array, conv.Str(key))
+		r.Push(array, conv.Str(key))
 	}
 	return array, nil
 }
 
-func (r *run) create(proto, props heap.Value) (heap.Value, *jump) {
+func (r *Realm) create(proto, props heap.Value) (heap.Value, *Jump) {
 	switch {
 	case proto.Kind == heap.Object && r.head(proto).Kind != heap.Plain:
 		return r.fail(conv.Exit)
@@ -83,7 +87,7 @@ func (r *run) create(proto, props heap.Value) (heap.Value, *jump) {
 	return r.newPlain(proto.Ref)
 }
 
-func (r *run) toNumber(args arguments) (heap.Value, *jump) {
+func (r *Realm) toNumber(args arguments) (heap.Value, *Jump) {
 	v := args.at(0)
 	switch {
 	case len(args) == 0:
@@ -102,7 +106,7 @@ func (r *run) toNumber(args arguments) (heap.Value, *jump) {
 	return conv.Num(n), nil
 }
 
-func (r *run) toBigInt(v heap.Value) (heap.Value, *jump) {
+func (r *Realm) toBigInt(v heap.Value) (heap.Value, *Jump) {
 	if v.Kind == heap.Number {
 		return r.bigOfNumber(v.N)
 	}
@@ -113,7 +117,7 @@ func (r *run) toBigInt(v heap.Value) (heap.Value, *jump) {
 	return bigInt(b), nil
 }
 
-func (r *run) bigOfNumber(n api.Num) (heap.Value, *jump) {
+func (r *Realm) bigOfNumber(n api.Num) (heap.Value, *Jump) {
 	switch n.Kind {
 	case api.NWhole, api.NNegZero:
 		// The N of minus zero is 0.
@@ -122,7 +126,7 @@ func (r *run) bigOfNumber(n api.Num) (heap.Value, *jump) {
 	return r.fail(conv.Range)
 }
 
-func (r *run) toText(args arguments) (heap.Value, *jump) {
+func (r *Realm) toText(args arguments) (heap.Value, *Jump) {
 	if len(args) == 0 {
 		return conv.Str(nil), nil
 	}
@@ -134,7 +138,7 @@ func (r *run) toText(args arguments) (heap.Value, *jump) {
 }
 
 // toError makes an error with this name, whose message is a value as a text.
-func (r *run) toError(name string, v heap.Value) (heap.Value, *jump) {
+func (r *Realm) toError(name string, v heap.Value) (heap.Value, *Jump) {
 	if v.Kind == heap.Undefined {
 		return r.newError(name, nil)
 	}

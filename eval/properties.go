@@ -9,7 +9,7 @@ import (
 )
 
 // get reads the property of v under a key.
-func (r *run) get(v, key heap.Value) (heap.Value, *jump) {
+func (r *Realm) get(v, key heap.Value) (heap.Value, *Jump) {
 	k, j := r.keyFor(v, key)
 	switch {
 	case j != nil:
@@ -21,7 +21,7 @@ func (r *run) get(v, key heap.Value) (heap.Value, *jump) {
 }
 
 // keyFor returns a key of v as a text.
-func (r *run) keyFor(v, key heap.Value) ([]uint16, *jump) {
+func (r *Realm) keyFor(v, key heap.Value) ([]uint16, *Jump) {
 	if isNothing(v) {
 		return nil, r.raise(conv.Type)
 	}
@@ -29,7 +29,7 @@ func (r *run) keyFor(v, key heap.Value) ([]uint16, *jump) {
 	return k, r.raise(signal)
 }
 
-func (r *run) getOfText(u, key []uint16) (heap.Value, *jump) {
+func (r *Realm) getOfText(u, key []uint16) (heap.Value, *Jump) {
 	if spelled(key) == "length" {
 		return whole(len(u)), nil
 	}
@@ -44,7 +44,7 @@ func (r *run) getOfText(u, key []uint16) (heap.Value, *jump) {
 }
 
 // getOfObject reads the property of v, which may be of any kind but a text.
-func (r *run) getOfObject(v heap.Value, key []uint16) (heap.Value, *jump) {
+func (r *Realm) getOfObject(v heap.Value, key []uint16) (heap.Value, *Jump) {
 	c := r.head(v)
 	if c.Kind == heap.Plain {
 		found, _, j := r.find(v, key)
@@ -70,7 +70,7 @@ func (r *run) getOfObject(v heap.Value, key []uint16) (heap.Value, *jump) {
 
 // find returns the property of a plain object, or of one that it is derived from,
 // and whether there is one.
-func (r *run) find(v heap.Value, key []uint16) (heap.Value, bool, *jump) {
+func (r *Realm) find(v heap.Value, key []uint16) (heap.Value, bool, *Jump) {
 	found, end, ok := r.heap.Find(v.Ref, key)
 	if !ok && end == heap.Root && isOfRoot(spelled(key)) {
 		return heap.Value{}, false, r.raise(conv.Exit)
@@ -92,7 +92,7 @@ func isOfRoot(name string) bool {
 
 // member returns the property that all cells of a kind have, if there is one with
 // this name.
-func (r *run) member(c heap.Cell, name string) (heap.Value, bool) {
+func (r *Realm) member(c heap.Cell, name string) (heap.Value, bool) {
 	switch c.Kind {
 	case heap.Array:
 		if name == "length" {
@@ -144,7 +144,7 @@ func memberOfPart(c heap.Cell, size int, name string) (heap.Value, bool) {
 }
 
 // set sets the property of base under a key.
-func (r *run) set(base, key, v heap.Value) *jump {
+func (r *Realm) set(base, key, v heap.Value) *Jump {
 	k, j := r.keyFor(base, key)
 	switch {
 	case j != nil:
@@ -156,11 +156,11 @@ func (r *run) set(base, key, v heap.Value) *jump {
 	i, ok := text.Key(k)
 	switch {
 	case c.Kind == heap.Plain:
-		return r.setOfPlain(base, k, v)
+		return r.Put(base, k, v)
 	case c.Kind == heap.TypedArray && ok:
 		return r.setElement(c, i, v)
 	case c.Kind == heap.Array && ok && i == c.Len:
-		r.push(base, v)
+		r.Push(base, v)
 		return nil
 	case c.Kind == heap.Array && ok && i < c.Len, c.Kind == heap.Function && r.owns(base, k):
 		r.heap.Put(base.Ref, k, v)
@@ -169,21 +169,22 @@ func (r *run) set(base, key, v heap.Value) *jump {
 	return r.raise(conv.Exit)
 }
 
-func (r *run) owns(v heap.Value, key []uint16) bool {
+func (r *Realm) owns(v heap.Value, key []uint16) bool {
 	_, ok := r.heap.Own(v.Ref, key)
 	return ok
 }
 
-func (r *run) setOfPlain(base heap.Value, key []uint16, v heap.Value) *jump {
+// Put sets the property of a plain object under a key.
+func (r *Realm) Put(object heap.Value, key []uint16, v heap.Value) *Jump {
 	if spelled(key) == "__proto__" {
 		return r.raise(conv.Exit)
 	}
-	r.heap.Put(base.Ref, key, v)
+	r.heap.Put(object.Ref, key, v)
 	return nil
 }
 
 // has reports whether an object has a property under a key.
-func (r *run) has(key, object heap.Value) (heap.Value, *jump) {
+func (r *Realm) has(key, object heap.Value) (heap.Value, *Jump) {
 	if object.Kind != heap.Object {
 		return r.fail(conv.Type)
 	}

@@ -6,23 +6,33 @@ import (
 	"rendezvous/tree"
 )
 
-// place is where a node is executed: in a scope, and with a this, unless there
+// Place is where a node is executed: in a scope, and with a this, unless there
 // is none.
-type place struct {
+type Place struct {
 	scope   int
 	this    heap.Value
 	hasThis bool
 }
 
+// Begun returns where the statements of the program are executed: in its scope,
+// which is there even if nothing is declared in it.
+func (r *Realm) Begun() (Place, *Jump) {
+	in, j := r.inner(Place{scope: heap.Outside})
+	if j != nil {
+		return in, j
+	}
+	return in, r.introduce(r.nodes[0].Kids, in)
+}
+
 // inner makes a scope in the present one.
-func (r *run) inner(in place) (place, *jump) {
+func (r *Realm) inner(in Place) (Place, *Jump) {
 	v, j := r.make(heap.Cell{Kind: heap.Scope, Scope: in.scope})
 	in.scope = v.Ref
 	return in, j
 }
 
-// enter enters the scope of a node with these statements, if they declare a name.
-func (r *run) enter(statements []int, in place) (place, *jump) {
+// Enter enters the scope of a node with these statements, if they declare a name.
+func (r *Realm) Enter(statements []int, in Place) (Place, *Jump) {
 	if !r.declares(statements) {
 		return in, nil
 	}
@@ -33,7 +43,7 @@ func (r *run) enter(statements []int, in place) (place, *jump) {
 	return in, r.introduce(statements, in)
 }
 
-func (r *run) declares(statements []int) bool {
+func (r *Realm) declares(statements []int) bool {
 	for _, n := range statements {
 		switch r.nodes[n].Kind {
 		case tree.Let, tree.Const, tree.Func:
@@ -45,7 +55,7 @@ func (r *run) declares(statements []int) bool {
 
 // introduce declares the names of all Let, Const and Func among these statements
 // in the present scope.
-func (r *run) introduce(statements []int, in place) *jump {
+func (r *Realm) introduce(statements []int, in Place) *Jump {
 	for _, n := range statements {
 		node := r.nodes[n]
 		switch node.Kind {
@@ -64,16 +74,38 @@ func (r *run) introduce(statements []int, in place) *jump {
 	return nil
 }
 
-// turn makes a scope like the present one, for the next turn of a loop.
-func (r *run) turn(in place) (place, *jump) {
+// Catch enters the scope of a Catch, if that has a name for what was thrown.
+func (r *Realm) Catch(name string, v heap.Value, in Place) (Place, *Jump) {
+	if name == "" {
+		return in, nil
+	}
+	in, j := r.inner(in)
+	if j != nil {
+		return in, j
+	}
+	r.heap.Declare(in.scope, name, v, true, false)
+	return in, nil
+}
+
+// Turn returns where the next turn of a For with this first child is executed:
+// with a Let, that is a new scope like the present one.
+func (r *Realm) Turn(first int, in Place) (Place, *Jump) {
+	if r.nodes[first].Kind != tree.Let {
+		return in, nil
+	}
 	c, _ := r.heap.Cell(in.scope)
 	v, j := r.make(heap.Cell{Kind: heap.Scope, Scope: c.Scope, Slots: c.Slots})
 	in.scope = v.Ref
 	return in, j
 }
 
+// Ready gives a name that the present scope declares its first value.
+func (r *Realm) Ready(name string, v heap.Value, in Place) {
+	r.heap.Give(in.scope, name, v, true)
+}
+
 // lookUp returns the value of a name, and whether there is one.
-func (r *run) lookUp(name string, in place) (heap.Value, bool, *jump) {
+func (r *Realm) lookUp(name string, in Place) (heap.Value, bool, *Jump) {
 	slot, _, found := r.heap.Look(in.scope, name)
 	switch {
 	case found && !slot.Ready:
@@ -91,7 +123,7 @@ func (r *run) lookUp(name string, in place) (heap.Value, bool, *jump) {
 }
 
 // readName returns the value of a name.
-func (r *run) readName(name string, in place) (heap.Value, *jump) {
+func (r *Realm) readName(name string, in Place) (heap.Value, *Jump) {
 	v, found, j := r.lookUp(name, in)
 	if j == nil && !found {
 		return r.fail(conv.Reference)
@@ -100,7 +132,7 @@ func (r *run) readName(name string, in place) (heap.Value, *jump) {
 }
 
 // setName gives a name a value.
-func (r *run) setName(name string, v heap.Value, in place) *jump {
+func (r *Realm) setName(name string, v heap.Value, in Place) *Jump {
 	slot, owner, found := r.heap.Look(in.scope, name)
 	if !found {
 		return r.raise(r.missing(name))
@@ -116,7 +148,7 @@ func (r *run) setName(name string, v heap.Value, in place) *jump {
 }
 
 // missing returns the signal of setting a name that no scope has.
-func (r *run) missing(name string) int {
+func (r *Realm) missing(name string) int {
 	if _, ok := r.global(name); ok || isUnsupported(name) {
 		return conv.Exit
 	}

@@ -2,32 +2,26 @@ package eval
 
 import (
 	"rendezvous/api"
-	"rendezvous/conv"
 	"rendezvous/heap"
 	"rendezvous/tree"
 )
 
-// statementsOfProgram executes the statements of the program in its scope, which
-// is there even if nothing is declared in it.
-func (r *run) statementsOfProgram() *jump {
-	in, j := r.inner(place{scope: heap.Outside})
+// run is an execution of a program from its beginning on.
+type run struct {
+	*Realm
+}
+
+// program executes the program.
+func (r *run) program() *Jump {
+	in, j := r.Begun()
 	if j != nil {
 		return j
 	}
-	return r.body(r.nodes[0].Kids, in)
-}
-
-// body executes the statements of a program or of a function, whose scope has
-// been entered.
-func (r *run) body(statements []int, in place) *jump {
-	if j := r.introduce(statements, in); j != nil {
-		return j
-	}
-	return r.inOrder(statements, in)
+	return r.inOrder(r.nodes[0].Kids, in)
 }
 
 // inOrder executes statements up to one that does not end normally.
-func (r *run) inOrder(statements []int, in place) *jump {
+func (r *run) inOrder(statements []int, in Place) *Jump {
 	for _, n := range statements {
 		if j := r.statement(n, in, nil); j != nil {
 			return j
@@ -37,11 +31,11 @@ func (r *run) inOrder(statements []int, in place) *jump {
 }
 
 // statement executes a statement, with the labels directly around it.
-func (r *run) statement(n int, in place, labels []string) *jump {
-	if j := r.begin(); j != nil {
+func (r *run) statement(n int, in Place, labels []string) *Jump {
+	if j := r.Begin(); j != nil {
 		return j
 	}
-	defer r.done()
+	defer r.Done()
 	node := r.nodes[n]
 	switch node.Kind {
 	case tree.Expr:
@@ -58,13 +52,13 @@ func (r *run) statement(n int, in place, labels []string) *jump {
 	case tree.For:
 		return r.loop(node, in, labels)
 	case tree.Break:
-		return &jump{kind: breaks, name: node.Name}
+		return &Jump{Kind: Breaks, Name: node.Name}
 	case tree.Continue:
-		return &jump{kind: continues, name: node.Name}
+		return &Jump{Kind: Continues, Name: node.Name}
 	case tree.Return:
-		return r.leave(returns, node, in)
+		return r.leave(Returns, node, in)
 	case tree.Throw:
-		return r.leave(throws, node, in)
+		return r.leave(Throws, node, in)
 	case tree.Try:
 		return r.try(node, in)
 	case tree.Label:
@@ -74,8 +68,8 @@ func (r *run) statement(n int, in place, labels []string) *jump {
 	return nil
 }
 
-func (r *run) block(node api.Node, in place) *jump {
-	in, j := r.enter(node.Kids, in)
+func (r *run) block(node api.Node, in Place) *Jump {
+	in, j := r.Enter(node.Kids, in)
 	if j != nil {
 		return j
 	}
@@ -83,27 +77,27 @@ func (r *run) block(node api.Node, in place) *jump {
 }
 
 // declarations executes the Decls of a Let or a Const, which the present scope declares.
-func (r *run) declarations(node api.Node, in place) *jump {
+func (r *run) declarations(node api.Node, in Place) *Jump {
 	for _, n := range node.Kids {
 		decl := r.nodes[n]
 		v, j := r.optional(decl.Kids, in)
 		if j != nil {
 			return j
 		}
-		r.heap.Give(in.scope, decl.Name, v, true)
+		r.Ready(decl.Name, v, in)
 	}
 	return nil
 }
 
 // optional returns the value of the expression, if there is one.
-func (r *run) optional(kids []int, in place) (heap.Value, *jump) {
+func (r *run) optional(kids []int, in Place) (heap.Value, *Jump) {
 	if len(kids) == 0 {
 		return heap.Value{}, nil
 	}
 	return r.expression(kids[0], in)
 }
 
-func (r *run) branch(node api.Node, in place) *jump {
+func (r *run) branch(node api.Node, in Place) *Jump {
 	holds, j := r.holds(node.Kids[0], in)
 	switch {
 	case j != nil:
@@ -114,27 +108,21 @@ func (r *run) branch(node api.Node, in place) *jump {
 	return r.inOrder(node.Kids[2:], in)
 }
 
-// holds reports whether the value of an expression counts as true.
-func (r *run) holds(n int, in place) (bool, *jump) {
-	v, j := r.expression(n, in)
-	return j == nil && conv.Bool(v), j
-}
-
 // leave ends a statement with the value of its expression, if it has one.
-func (r *run) leave(kind int, node api.Node, in place) *jump {
+func (r *run) leave(kind int, node api.Node, in Place) *Jump {
 	v, j := r.optional(node.Kids, in)
 	if j != nil {
 		return j
 	}
-	return &jump{kind: kind, v: v}
+	return &Jump{Kind: kind, V: v}
 }
 
-func (r *run) try(node api.Node, in place) *jump {
+func (r *run) try(node api.Node, in Place) *Jump {
 	j := r.statement(node.Kids[0], in, nil)
-	if catch := r.nodes[node.Kids[1]]; j.is(throws) && catch.Kind == tree.Catch {
-		j = r.catch(catch, j.v, in)
+	if catch := r.nodes[node.Kids[1]]; j.Is(Throws) && catch.Kind == tree.Catch {
+		j = r.catch(catch, j.V, in)
 	}
-	if j.is(stops) || r.nodes[node.Kids[2]].Kind == tree.Nothing {
+	if j.Is(Stops) || r.nodes[node.Kids[2]].Kind == tree.Nothing {
 		return j
 	}
 	if last := r.statement(node.Kids[2], in, nil); last != nil {
@@ -143,14 +131,10 @@ func (r *run) try(node api.Node, in place) *jump {
 	return j
 }
 
-func (r *run) catch(node api.Node, v heap.Value, in place) *jump {
-	if node.Name == "" {
-		return r.statement(node.Kids[0], in, nil)
-	}
-	in, j := r.inner(in)
+func (r *run) catch(node api.Node, v heap.Value, in Place) *Jump {
+	in, j := r.Catch(node.Name, v, in)
 	if j != nil {
 		return j
 	}
-	r.heap.Declare(in.scope, node.Name, v, true, false)
 	return r.statement(node.Kids[0], in, nil)
 }
